@@ -1,0 +1,72 @@
+package checks
+
+import (
+	"go/ast"
+	"testing"
+)
+
+// Section Ways, layer 1: bits lie in an array, are told by a range over a function, and lists are merged by a closure.
+func TestWaysOfIds(t *testing.T) {
+	for _, s := range sources(t) {
+		if s.pack != "ids" {
+			continue
+		}
+		if !has(typeOf(s.file, "Bits"), isArray) {
+			t.Error("Bits has no array")
+		}
+		if !has(function(s.file, "All"), isClosure) {
+			t.Error("All answers no function of its own")
+		}
+		for _, name := range []string{"Union", "Meet", "Minus"} {
+			if !has(function(s.file, name), isClosure) {
+				t.Errorf("%s has no closure", name)
+			}
+		}
+	}
+}
+
+func isArray(n ast.Node) bool {
+	a, ok := n.(*ast.ArrayType)
+	return ok && a.Len != nil
+}
+
+func isClosure(n ast.Node) bool {
+	_, ok := n.(*ast.FuncLit)
+	return ok
+}
+
+// has tells whether something within a node is so; false of no node.
+func has(n ast.Node, is func(ast.Node) bool) bool {
+	found := false
+	if n != nil {
+		ast.Inspect(n, func(m ast.Node) bool {
+			found = found || m != nil && is(m)
+			return !found
+		})
+	}
+	return found
+}
+
+func function(f *ast.File, name string) ast.Node {
+	for _, d := range f.Decls {
+		if x, ok := d.(*ast.FuncDecl); ok && x.Name.Name == name {
+			return x
+		}
+	}
+	return nil
+}
+
+func typeOf(f *ast.File, name string) ast.Node {
+	for _, d := range f.Decls {
+		g, ok := d.(*ast.GenDecl)
+		if !ok {
+			continue
+		}
+		for _, s := range g.Specs {
+			if x, ok := s.(*ast.TypeSpec); ok && x.Name.Name == name {
+				return x
+			}
+		}
+	}
+	return nil
+}
