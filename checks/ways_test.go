@@ -25,6 +25,44 @@ func TestWaysOfIds(t *testing.T) {
 	}
 }
 
+// Section Ways, layer 2: names stand in a map, and comparisons, too, by a key that is a struct.
+func TestWaysOfNames(t *testing.T) {
+	for _, s := range sources(t) {
+		if s.pack != "names" {
+			continue
+		}
+		table := typeOf(s.file, "Table")
+		if !has(table, isMapBy(isText)) {
+			t.Error("Table has no map of names")
+		}
+		isStruct := func(key *ast.Ident) bool { return has(typeOf(s.file, key.Name), isStructType) }
+		if !has(table, isMapBy(isStruct)) {
+			t.Error("Table has no map by a struct")
+		}
+	}
+}
+
+// isMapBy tells of a node whether it is a map whose keys' type is so.
+func isMapBy(is func(*ast.Ident) bool) func(ast.Node) bool {
+	return func(n ast.Node) bool {
+		m, ok := n.(*ast.MapType)
+		if !ok {
+			return false
+		}
+		key, ok := m.Key.(*ast.Ident)
+		return ok && is(key)
+	}
+}
+
+func isText(key *ast.Ident) bool {
+	return key.Name == "string"
+}
+
+func isStructType(n ast.Node) bool {
+	_, ok := n.(*ast.StructType)
+	return ok
+}
+
 func isArray(n ast.Node) bool {
 	a, ok := n.(*ast.ArrayType)
 	return ok && a.Len != nil
