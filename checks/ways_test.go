@@ -2,6 +2,7 @@ package checks
 
 import (
 	"go/ast"
+	"go/token"
 	"testing"
 )
 
@@ -42,6 +43,23 @@ func TestWaysOfNames(t *testing.T) {
 	}
 }
 
+// Section Ways, layer 3: texts are gone through by goto, and their rest is told by a closure, of both kinds.
+func TestWaysOfEvr(t *testing.T) {
+	for _, s := range sources(t) {
+		if s.pack != "evr" {
+			continue
+		}
+		for _, name := range []string{"compareRpm", "compareDeb"} {
+			if !has(function(s.file, name), isGoto) {
+				t.Errorf("%s has no goto", name)
+			}
+			if !has(function(s.file, name), isClosure) {
+				t.Errorf("%s has no closure", name)
+			}
+		}
+	}
+}
+
 // isMapBy tells of a node whether it is a map whose keys' type is so.
 func isMapBy(is func(*ast.Ident) bool) func(ast.Node) bool {
 	return func(n ast.Node) bool {
@@ -66,6 +84,11 @@ func isStructType(n ast.Node) bool {
 func isArray(n ast.Node) bool {
 	a, ok := n.(*ast.ArrayType)
 	return ok && a.Len != nil
+}
+
+func isGoto(n ast.Node) bool {
+	b, ok := n.(*ast.BranchStmt)
+	return ok && b.Tok == token.GOTO
 }
 
 func isClosure(n ast.Node) bool {
