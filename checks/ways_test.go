@@ -60,6 +60,31 @@ func TestWaysOfEvr(t *testing.T) {
 	}
 }
 
+// Section Ways, layer 4: scores are complex numbers, in a map by the architectures' names.
+func TestWaysOfArch(t *testing.T) {
+	for _, s := range sources(t) {
+		if s.pack != "arch" {
+			continue
+		}
+		table := typeOf(s.file, "Table")
+		if !has(table, isMapBy(isText)) || !has(table, isMapOf("complex128")) {
+			t.Error("Table has no map of complex numbers by names")
+		}
+	}
+}
+
+// isMapOf tells of a node whether it is a map whose values' type has that name.
+func isMapOf(name string) func(ast.Node) bool {
+	return func(n ast.Node) bool {
+		m, ok := n.(*ast.MapType)
+		if !ok {
+			return false
+		}
+		value, ok := m.Value.(*ast.Ident)
+		return ok && value.Name == name
+	}
+}
+
 // isMapBy tells of a node whether it is a map whose keys' type is so.
 func isMapBy(is func(*ast.Ident) bool) func(ast.Node) bool {
 	return func(n ast.Node) bool {
