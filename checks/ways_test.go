@@ -73,6 +73,52 @@ func TestWaysOfArch(t *testing.T) {
 	}
 }
 
+// Section Ways, layer 5: words are gone to by goto; what may not be gives up by panic, recovered in a deferred function, where an assertion tells what it was.
+func TestWaysOfDep(t *testing.T) {
+	for _, s := range sources(t) {
+		if s.pack != "dep" {
+			continue
+		}
+		if !has(function(s.file, "read"), isGoto) {
+			t.Error("read has no goto")
+		}
+		for _, name := range []string{"check", "must"} {
+			if !has(function(s.file, name), isCallOf("panic")) {
+				t.Errorf("%s does not panic", name)
+			}
+		}
+		for _, name := range []string{"Check", "Parse"} {
+			if !has(function(s.file, name), isCallOf("caught")) {
+				t.Errorf("%s does not catch what gives up", name)
+			}
+		}
+		recovers := func(n ast.Node) bool {
+			d, ok := n.(*ast.DeferStmt)
+			return ok && has(d, isCallOf("recover")) && has(d, isAssertion)
+		}
+		if !has(function(s.file, "caught"), recovers) {
+			t.Error("caught has no deferred function that recovers, and asserts what it was")
+		}
+	}
+}
+
+// isCallOf tells of a node whether it calls what has that name.
+func isCallOf(name string) func(ast.Node) bool {
+	return func(n ast.Node) bool {
+		c, ok := n.(*ast.CallExpr)
+		if !ok {
+			return false
+		}
+		f, ok := c.Fun.(*ast.Ident)
+		return ok && f.Name == name
+	}
+}
+
+func isAssertion(n ast.Node) bool {
+	a, ok := n.(*ast.TypeAssertExpr)
+	return ok && a.Type != nil
+}
+
 // isMapOf tells of a node whether it is a map whose values' type has that name.
 func isMapOf(name string) func(ast.Node) bool {
 	return func(n ast.Node) bool {
