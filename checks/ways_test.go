@@ -102,6 +102,48 @@ func TestWaysOfDep(t *testing.T) {
 	}
 }
 
+// Section Ways, layer 6: what a pool keeps of a package embeds it, its fields promoted; names stand in a map.
+func TestWaysOfPool(t *testing.T) {
+	for _, s := range sources(t) {
+		if s.pack != "pool" {
+			continue
+		}
+		if !has(typeOf(s.file, "kept"), embeds("Package")) {
+			t.Error("kept embeds no package")
+		}
+		if !has(function(s.file, "Add"), isFieldOf("k", "Name")) {
+			t.Error("Add takes no name that is promoted")
+		}
+		if !has(typeOf(s.file, "Pool"), isMapBy(isText)) {
+			t.Error("Pool has no map by names")
+		}
+	}
+}
+
+// embeds tells of a node whether it is a struct that embeds another package's type of that name.
+func embeds(name string) func(ast.Node) bool {
+	return func(n ast.Node) bool {
+		f, ok := n.(*ast.Field)
+		if !ok || len(f.Names) > 0 {
+			return false
+		}
+		x, ok := f.Type.(*ast.SelectorExpr)
+		return ok && x.Sel.Name == name
+	}
+}
+
+// isFieldOf tells of a node whether it is a field of a variable, both of these names.
+func isFieldOf(variable, field string) func(ast.Node) bool {
+	return func(n ast.Node) bool {
+		x, ok := n.(*ast.SelectorExpr)
+		if !ok || x.Sel.Name != field {
+			return false
+		}
+		v, ok := x.X.(*ast.Ident)
+		return ok && v.Name == variable
+	}
+}
+
 // isCallOf tells of a node whether it calls what has that name.
 func isCallOf(name string) func(ast.Node) bool {
 	return func(n ast.Node) bool {
