@@ -120,6 +120,39 @@ func TestWaysOfPool(t *testing.T) {
 	}
 }
 
+// Section Ways, layer 7: what a name stands for is in a map of lists; which package meets what is told by closures that are put together.
+func TestWaysOfProvides(t *testing.T) {
+	for _, s := range sources(t) {
+		if s.pack != "provides" {
+			continue
+		}
+		index := typeOf(s.file, "Index")
+		if !has(index, isMapBy(isText)) || !has(index, isMapOfLists) {
+			t.Error("Index has no map of lists by names")
+		}
+		for _, name := range []string{"alone", "together", "every", "some", "choice"} {
+			if !has(function(s.file, name), isClosure) {
+				t.Errorf("%s has no closure", name)
+			}
+		}
+		for _, name := range []string{"every", "some", "choice"} {
+			if !has(function(s.file, "together"), isCallOf(name)) {
+				t.Errorf("together puts nothing together by %s", name)
+			}
+		}
+	}
+}
+
+// isMapOfLists tells of a node whether it is a map whose values are slices.
+func isMapOfLists(n ast.Node) bool {
+	m, ok := n.(*ast.MapType)
+	if !ok {
+		return false
+	}
+	l, ok := m.Value.(*ast.ArrayType)
+	return ok && l.Len == nil
+}
+
 // embeds tells of a node whether it is a struct that embeds another package's type of that name.
 func embeds(name string) func(ast.Node) bool {
 	return func(n ast.Node) bool {
