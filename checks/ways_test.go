@@ -143,6 +143,51 @@ func TestWaysOfProvides(t *testing.T) {
 	}
 }
 
+// Section Ways, layer 8: values stand in a map of maps, and are deleted; a glob is tried by loops that are labelled, and gone on with by their labels.
+func TestWaysOfAttrs(t *testing.T) {
+	for _, s := range sources(t) {
+		if s.pack != "attrs" {
+			continue
+		}
+		store := typeOf(s.file, "Store")
+		if !has(store, isMapBy(isText)) || !has(store, isMapOfMaps) {
+			t.Error("Store has no map of maps by keys")
+		}
+		if !has(function(s.file, "Unset"), isCallOf("delete")) {
+			t.Error("Unset deletes nothing")
+		}
+		glob := function(s.file, "glob")
+		if !has(glob, isLabelledLoop) || !has(glob, isToLabel) {
+			t.Error("glob has no loop that is gone on with by its label")
+		}
+	}
+}
+
+// isMapOfMaps tells of a node whether it is a map whose values are maps.
+func isMapOfMaps(n ast.Node) bool {
+	m, ok := n.(*ast.MapType)
+	if !ok {
+		return false
+	}
+	_, ok = m.Value.(*ast.MapType)
+	return ok
+}
+
+func isLabelledLoop(n ast.Node) bool {
+	l, ok := n.(*ast.LabeledStmt)
+	if !ok {
+		return false
+	}
+	_, ok = l.Stmt.(*ast.ForStmt)
+	return ok
+}
+
+// isToLabel tells of a node whether it leaves, or goes on with, the loop of a label.
+func isToLabel(n ast.Node) bool {
+	b, ok := n.(*ast.BranchStmt)
+	return ok && b.Label != nil && b.Tok != token.GOTO
+}
+
 // isMapOfLists tells of a node whether it is a map whose values are slices.
 func isMapOfLists(n ast.Node) bool {
 	m, ok := n.(*ast.MapType)
