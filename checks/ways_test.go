@@ -163,6 +163,36 @@ func TestWaysOfAttrs(t *testing.T) {
 	}
 }
 
+// Section Ways, layer 9: what is wrong gives up by panic, recovered in a deferred function; the texts' places stand in a map.
+func TestWaysOfCache(t *testing.T) {
+	for _, s := range sources(t) {
+		if s.pack != "cache" {
+			continue
+		}
+		if !has(function(s.file, "must"), isCallOf("panic")) {
+			t.Error("must does not panic")
+		}
+		for _, name := range []string{"number", "count", "text", "pool", "part"} {
+			if !has(method(s.file, "reader", name), isCallOf("must")) {
+				t.Errorf("%s of the reader gives nothing up", name)
+			}
+		}
+		if !has(function(s.file, "Read"), isCallOf("caught")) {
+			t.Error("Read does not catch what gives up")
+		}
+		recovers := func(n ast.Node) bool {
+			d, ok := n.(*ast.DeferStmt)
+			return ok && has(d, isCallOf("recover"))
+		}
+		if !has(function(s.file, "caught"), recovers) {
+			t.Error("caught has no deferred function that recovers")
+		}
+		if !has(typeOf(s.file, "writer"), isMapBy(isText)) || !has(typeOf(s.file, "writer"), isMapOf("int")) {
+			t.Error("the writer has no map of places by texts")
+		}
+	}
+}
+
 // isMapOfMaps tells of a node whether it is a map whose values are maps.
 func isMapOfMaps(n ast.Node) bool {
 	m, ok := n.(*ast.MapType)
@@ -302,6 +332,21 @@ func has(n ast.Node, is func(ast.Node) bool) bool {
 func function(f *ast.File, name string) ast.Node {
 	for _, d := range f.Decls {
 		if x, ok := d.(*ast.FuncDecl); ok && x.Name.Name == name {
+			return x
+		}
+	}
+	return nil
+}
+
+// method is a function of that name, of a type or of pointers to it.
+func method(f *ast.File, of, name string) ast.Node {
+	for _, d := range f.Decls {
+		x, ok := d.(*ast.FuncDecl)
+		isOf := func(n ast.Node) bool {
+			i, ok := n.(*ast.Ident)
+			return ok && i.Name == of
+		}
+		if ok && x.Name.Name == name && x.Recv != nil && has(x.Recv, isOf) {
 			return x
 		}
 	}
