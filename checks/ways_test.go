@@ -93,8 +93,7 @@ func TestWaysOfDep(t *testing.T) {
 			}
 		}
 		recovers := func(n ast.Node) bool {
-			d, ok := n.(*ast.DeferStmt)
-			return ok && has(d, isCallOf("recover")) && has(d, isAssertion)
+			return isRecovery(n) && has(n, isAssertion)
 		}
 		if !has(function(s.file, "caught"), recovers) {
 			t.Error("caught has no deferred function that recovers, and asserts what it was")
@@ -180,17 +179,47 @@ func TestWaysOfCache(t *testing.T) {
 		if !has(function(s.file, "Read"), isCallOf("caught")) {
 			t.Error("Read does not catch what gives up")
 		}
-		recovers := func(n ast.Node) bool {
-			d, ok := n.(*ast.DeferStmt)
-			return ok && has(d, isCallOf("recover"))
-		}
-		if !has(function(s.file, "caught"), recovers) {
+		if !has(function(s.file, "caught"), isRecovery) {
 			t.Error("caught has no deferred function that recovers")
 		}
 		if !has(typeOf(s.file, "writer"), isMapBy(isText)) || !has(typeOf(s.file, "writer"), isMapOf("int")) {
 			t.Error("the writer has no map of places by texts")
 		}
 	}
+}
+
+// Section Ways, layer 10: what is read goes from state to state by goto; what is wrong gives up by panic, recovered in a deferred function.
+func TestWaysOfXmlpull(t *testing.T) {
+	for _, s := range sources(t) {
+		if s.pack != "xmlpull" {
+			continue
+		}
+		for _, name := range []string{"run", "start", "value"} {
+			if !has(method(s.file, "Reader", name), isGoto) {
+				t.Errorf("%s has no goto", name)
+			}
+		}
+		if !has(function(s.file, "must"), isCallOf("panic")) {
+			t.Error("must does not panic")
+		}
+		for _, name := range []string{"next", "run", "start", "attr", "end", "entity", "name", "upTo", "take", "want"} {
+			if !has(method(s.file, "Reader", name), isCallOf("must")) {
+				t.Errorf("%s gives nothing up", name)
+			}
+		}
+		if !has(method(s.file, "Reader", "Next"), isCallOf("caught")) {
+			t.Error("Next does not catch what gives up")
+		}
+		if !has(function(s.file, "caught"), isRecovery) {
+			t.Error("caught has no deferred function that recovers")
+		}
+	}
+}
+
+// isRecovery tells of a node whether it is a deferred function that recovers.
+func isRecovery(n ast.Node) bool {
+	d, ok := n.(*ast.DeferStmt)
+	return ok && has(d, isCallOf("recover"))
 }
 
 // isMapOfMaps tells of a node whether it is a map whose values are maps.
