@@ -216,6 +216,61 @@ func TestWaysOfXmlpull(t *testing.T) {
 	}
 }
 
+// Section Ways, layer 11: elements are told apart by maps of functions, which functions make; what is open is a linked list, its items embedded.
+func TestWaysOfRpmmd(t *testing.T) {
+	for _, s := range sources(t) {
+		if s.pack != "rpmmd" {
+			continue
+		}
+		if !has(typeOf(s.file, "begin"), isFunctionType) {
+			t.Error("begin is no function")
+		}
+		if !has(typeOf(s.file, "element"), isMapBy(isText)) || !has(typeOf(s.file, "element"), isMapOf("begin")) {
+			t.Error("an element has no map of functions by names")
+		}
+		for _, name := range []string{"metadata", "inPackage", "inFormat"} {
+			if !has(function(s.file, name), isMapOf("begin")) {
+				t.Errorf("%s makes no map of functions", name)
+			}
+		}
+		open := typeOf(s.file, "open")
+		if !has(open, embedsOwn("element")) || !has(open, isPointerTo("open")) {
+			t.Error("what is open is no linked list that embeds elements")
+		}
+		if !has(method(s.file, "reader", "end"), isFieldOf("ended", "end")) {
+			t.Error("an end takes no function that is promoted")
+		}
+	}
+}
+
+func isFunctionType(n ast.Node) bool {
+	_, ok := n.(*ast.FuncType)
+	return ok
+}
+
+// embedsOwn tells of a node whether it is a struct that embeds the package's own type of that name.
+func embedsOwn(name string) func(ast.Node) bool {
+	return func(n ast.Node) bool {
+		f, ok := n.(*ast.Field)
+		if !ok || len(f.Names) > 0 {
+			return false
+		}
+		x, ok := f.Type.(*ast.Ident)
+		return ok && x.Name == name
+	}
+}
+
+func isPointerTo(name string) func(ast.Node) bool {
+	return func(n ast.Node) bool {
+		p, ok := n.(*ast.StarExpr)
+		if !ok {
+			return false
+		}
+		x, ok := p.X.(*ast.Ident)
+		return ok && x.Name == name
+	}
+}
+
 // isRecovery tells of a node whether it is a deferred function that recovers.
 func isRecovery(n ast.Node) bool {
 	d, ok := n.(*ast.DeferStmt)
