@@ -243,6 +243,35 @@ func TestWaysOfRpmmd(t *testing.T) {
 	}
 }
 
+// Section Ways, layer 12: fields are read by a loop that is left, and gone on with, by its label, and stand in a map; what they mean is in maps of functions, which functions make.
+func TestWaysOfDebctl(t *testing.T) {
+	for _, s := range sources(t) {
+		if s.pack != "debctl" {
+			continue
+		}
+		read := function(s.file, "read")
+		if !has(read, isLabelledLoop) || !has(read, isToLabel) {
+			t.Error("read has no loop that is left by its label")
+		}
+		if !has(typeOf(s.file, "stanza"), isMapBy(isText)) {
+			t.Error("a stanza is no map of fields by names")
+		}
+		for kind, makes := range map[string]string{"textField": "textFields", "relationField": "relationFields"} {
+			if !has(typeOf(s.file, kind), isFunctionType) {
+				t.Errorf("%s is no function", kind)
+			}
+			if !has(function(s.file, makes), isMapOf(kind)) {
+				t.Errorf("%s makes no map of functions", makes)
+			}
+			for _, user := range []string{"pack", "stanzaText"} {
+				if !has(function(s.file, user), isCallOf(makes)) {
+					t.Errorf("%s asks nothing of %s", user, makes)
+				}
+			}
+		}
+	}
+}
+
 func isFunctionType(n ast.Node) bool {
 	_, ok := n.(*ast.FuncType)
 	return ok
