@@ -272,6 +272,35 @@ func TestWaysOfDebctl(t *testing.T) {
 	}
 }
 
+// Section Ways, layer 13: tags are gone to by goto; what they mean is in maps of functions, which functions make.
+func TestWaysOfSuse(t *testing.T) {
+	for _, s := range sources(t) {
+		if s.pack != "suse" {
+			continue
+		}
+		read := method(s.file, "reader", "read")
+		if !has(read, isGoto) {
+			t.Error("read has no goto")
+		}
+		for kind, makes := range map[string]string{"meaning": "meanings", "depList": "depLists"} {
+			if !has(typeOf(s.file, kind), isFunctionType) {
+				t.Errorf("%s is no function", kind)
+			}
+			if made := function(s.file, makes); !has(made, isMapOf(kind)) || !has(made, isMapBy(isText)) {
+				t.Errorf("%s makes no map of functions by tags", makes)
+			}
+		}
+		if !has(read, isCallOf("meanings")) {
+			t.Error("read asks nothing of meanings")
+		}
+		for _, user := range []string{"meanings", "packLines"} {
+			if !has(function(s.file, user), isCallOf("depLists")) {
+				t.Errorf("%s asks nothing of depLists", user)
+			}
+		}
+	}
+}
+
 func isFunctionType(n ast.Node) bool {
 	_, ok := n.(*ast.FuncType)
 	return ok
