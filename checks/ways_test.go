@@ -301,6 +301,37 @@ func TestWaysOfSuse(t *testing.T) {
 	}
 }
 
+func TestWaysOfJobs(t *testing.T) {
+	for _, s := range sources(t) {
+		if s.pack != "jobs" {
+			continue
+		}
+		for user, finds := range map[string]string{"Parse": "number", "Print": "word"} {
+			if !has(function(s.file, finds), isOfTypes) {
+				t.Errorf("%s is no generic function", finds)
+			}
+			if !has(function(s.file, user), isCallOf(finds)) {
+				t.Errorf("%s finds nothing by %s", user, finds)
+			}
+		}
+		if !has(typeOf(s.file, "finder"), isFunctionType) {
+			t.Error("finder is no function")
+		}
+		if !has(function(s.file, "finders"), isMapOf("finder")) {
+			t.Error("finders makes no map of functions")
+		}
+		if !has(function(s.file, "Select"), isCallOf("finders")) {
+			t.Error("Select asks nothing of finders")
+		}
+	}
+}
+
+// isOfTypes tells of a node whether it is what a generic function begins with.
+func isOfTypes(n ast.Node) bool {
+	f, ok := n.(*ast.FuncType)
+	return ok && f.TypeParams != nil
+}
+
 func isFunctionType(n ast.Node) bool {
 	_, ok := n.(*ast.FuncType)
 	return ok
