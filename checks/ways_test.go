@@ -326,6 +326,53 @@ func TestWaysOfJobs(t *testing.T) {
 	}
 }
 
+// Section Ways, layer 15: what decides is a list of method values; a package's marks are a struct that embeds another one, and they are compared as a whole.
+func TestWaysOfPolicy(t *testing.T) {
+	for _, s := range sources(t) {
+		if s.pack != "policy" {
+			continue
+		}
+		if !has(method(s.file, "Policy", "Better"), isListOfMethods) {
+			t.Error("Better has no list of method values")
+		}
+		if !has(typeOf(s.file, "kept"), embedsOwn("marks")) || !has(typeOf(s.file, "marks"), embedsOwn("family")) {
+			t.Error("marks are not embedded, or embed nothing")
+		}
+		if !has(method(s.file, "Policy", "mayFollow"), isComparisonOf("marks")) {
+			t.Error("mayFollow does not compare marks")
+		}
+		if !has(method(s.file, "Policy", "isFit"), isComparisonOf("family")) {
+			t.Error("isFit does not compare families")
+		}
+	}
+}
+
+// isListOfMethods tells of a node whether it is a slice of functions, of which each one is told as a method of something.
+func isListOfMethods(n ast.Node) bool {
+	l, ok := n.(*ast.CompositeLit)
+	if !ok || !has(l.Type, isFunctionType) || len(l.Elts) == 0 {
+		return false
+	}
+	for _, e := range l.Elts {
+		if _, ok := e.(*ast.SelectorExpr); !ok {
+			return false
+		}
+	}
+	return true
+}
+
+// isComparisonOf tells of a node whether it asks what is so called, or made of it, whether it is equal to something.
+func isComparisonOf(name string) func(ast.Node) bool {
+	isNamed := func(n ast.Node) bool {
+		x, ok := n.(*ast.SelectorExpr)
+		return ok && x.Sel.Name == name
+	}
+	return func(n ast.Node) bool {
+		b, ok := n.(*ast.BinaryExpr)
+		return ok && (b.Op == token.EQL || b.Op == token.NEQ) && has(b.X, isNamed)
+	}
+}
+
 // isOfTypes tells of a node whether it is what a generic function begins with.
 func isOfTypes(n ast.Node) bool {
 	f, ok := n.(*ast.FuncType)
