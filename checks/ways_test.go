@@ -347,6 +347,59 @@ func TestWaysOfPolicy(t *testing.T) {
 	}
 }
 
+// Section Ways, layer 16: what a dependency asks is put together by variadic functions, and which demand clauses come of is kept by closures.
+func TestWaysOfRules(t *testing.T) {
+	f := whole(t, "rules")
+	for _, name := range []string{"all", "some", "sides", "every", "either", "spread", "hitOpen"} {
+		x, ok := function(f, name).(*ast.FuncDecl)
+		if !ok || !has(x.Type, isVariadic) {
+			t.Errorf("%s is not variadic", name)
+		}
+	}
+	for _, name := range []string{"every", "either"} {
+		for _, by := range []string{"all", "some", "choice"} {
+			if !has(function(f, by), isCallOf(name)) {
+				t.Errorf("%s does not call %s", by, name)
+			}
+		}
+	}
+	if !has(typeOf(f, "layer"), isFunctionType) || !has(typeOf(f, "layer"), isVariadic) {
+		t.Error("layer is no variadic function")
+	}
+	isOfWhy := func(n ast.Node) bool {
+		x, ok := n.(*ast.FuncLit)
+		return ok && has(x.Type, isNamed("why")) && has(x.Body, isClosure) && has(x.Body, isNamed("why"))
+	}
+	if !has(function(f, "Make"), isOfWhy) {
+		t.Error("Make has no closure that keeps which demand clauses come of")
+	}
+}
+
+// whole is all that a package's files declare.
+func whole(t *testing.T, pack string) *ast.File {
+	t.Helper()
+	out := &ast.File{}
+	for _, s := range sources(t) {
+		if s.pack == pack {
+			out.Decls = append(out.Decls, s.file.Decls...)
+		}
+	}
+	return out
+}
+
+// isVariadic tells of a node whether it stands for any number of arguments.
+func isVariadic(n ast.Node) bool {
+	_, ok := n.(*ast.Ellipsis)
+	return ok
+}
+
+func isNamed(name string) func(ast.Node) bool {
+	return func(n ast.Node) bool {
+		x, ok := n.(*ast.Ident)
+		return ok && x.Name == name
+	}
+}
+
 // isListOfMethods tells of a node whether it is a slice of functions, of which each one is told as a method of something.
 func isListOfMethods(n ast.Node) bool {
 	l, ok := n.(*ast.CompositeLit)
